@@ -1,0 +1,1 @@
+"""Heardlate: plans that hold although others decide durations and news of them comes late."""

@@ -1,0 +1,1 @@
+"""What everything else rests on: integers, names and arcs."""

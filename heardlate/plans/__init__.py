@@ -1,0 +1,1 @@
+"""Plans and what they are made of."""
