@@ -3,7 +3,10 @@
 import unittest
 
 from heardlate.base.arcs import closed_arcs, numbers_paper
+from heardlate.plans.durations import all_durations
 from heardlate.plans.plans import Plan
+from heardlate.plans.timetables import earliest, play, timetable_paper
+from heardlate.runs.runs import Run
 
 NEAR = Plan(10, events=("v",), steps=(("c", "start", 1, 5, 0),), bounds=(("v", "c", 2), ("c", "v", 1)))
 EXACT = Plan(10, events=("v",), steps=(("c", "start", 1, 5, 0),), bounds=(("v", "c", 1), ("c", "v", -1)))
@@ -29,6 +32,8 @@ ODD = (
     [], ["zz"], [("zz", "zz", 1)], [[]], {}, {"zz": 0}, {"horizon": -1}, {0: 0}, {(): 0}, {None: None},
     deep(lambda inner: (inner,), "zz"), deep(lambda inner: [inner], 0), deep(lambda inner: {"zz": inner}, ()),
     NEAR, (NEAR,), closed_arcs((("a", "b", 1),)), numbers_paper((("a", "a", -1),)), numbers_paper(()),
+    all_durations(NEAR), earliest(NEAR, {"c": 3}), play(NEAR, {"c": 3}), timetable_paper(NEAR, {"c": 3}),
+    Run(NEAR), Run(NEAR).wait().hear("c"), (Run(NEAR),), Run(NEAR).expected(),
 )
 
 

@@ -28,6 +28,7 @@ BARRED = re.compile(
 )
 STATEMENTS = (ast.Import, ast.ImportFrom, ast.FunctionDef, ast.ClassDef, ast.Assign, ast.Expr)
 AT_ONCE = {"list", "tuple", "dict", "join"}
+GOING_OVER = (ast.For, ast.comprehension, ast.YieldFrom)
 
 
 def files():
@@ -138,6 +139,21 @@ class Language(unittest.TestCase):
                     self.assertTrue(kept or called in ("sorted", "len"), f"{path}:{node.lineno}")
                 if isinstance(node, ast.GeneratorExp):
                     self.assertIn(called, AT_ONCE, f"{path}:{node.lineno}")
+
+    def test_generators_are_iterated_at_once(self):
+        yielding = set()
+        for _, node in nodes(ast.FunctionDef):
+            if any(isinstance(part, (ast.Yield, ast.YieldFrom)) for part in ast.walk(node)):
+                yielding.add(node.name)
+        for path, tree in trees():
+            users = {id(part): node for node in ast.walk(tree) for part in ast.iter_child_nodes(node)}
+            for node in ast.walk(tree):
+                if isinstance(node, ast.Name) and node.id in yielding:
+                    call = users[id(node)]
+                    self.assertTrue(isinstance(call, ast.Call) and call.func is node, f"{path}:{node.lineno}")
+                    user = users[id(call)]
+                    called = getattr(getattr(user, "func", None), "id", "")
+                    self.assertTrue(isinstance(user, GOING_OVER) or called in AT_ONCE, f"{path}:{node.lineno}")
 
     def test_builtins(self):
         for path, tree in trees():

@@ -165,8 +165,7 @@ class Plan:
 
     def within(self, other):
         """Whether the other plan has the same points and begins of steps and asks for no more than this one."""
-        if not isinstance(other, Plan):
-            raise InvalidPlan("the other one is not a plan")
+        check_plan(other)
         if self._events != other.events or self._ends != other.ends or self._horizon > other.horizon:
             return False
         if not all([_asks_no_more(step, other.step(step[0])) for step in self._steps]):
@@ -222,6 +221,12 @@ class Plan:
         chosen = ends or self._ends
         steps = [step[:4] + (delay,) if step[0] in chosen else step for step in self._steps]
         return Plan(self._horizon, events=self._events, steps=tuple(steps), bounds=self._bounds)
+
+
+def check_plan(plan):
+    """Raises an error if this is not a plan."""
+    if not isinstance(plan, Plan):
+        raise InvalidPlan("this is not a plan")
 
 
 def least_bounds(bounds):
