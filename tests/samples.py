@@ -3,13 +3,20 @@
 import unittest
 
 from heardlate.base.arcs import closed_arcs, numbers_paper
+from heardlate.facts.facts import derived, given_facts
+from heardlate.facts.refutations import refutation
+from heardlate.facts.tables import derived_table, open_rule
 from heardlate.plans.durations import all_durations
 from heardlate.plans.plans import Plan
 from heardlate.plans.timetables import earliest, play, timetable_paper
+from heardlate.runs.policies import played, reached_pairs, trimmed
 from heardlate.runs.runs import Run
 
 NEAR = Plan(10, events=("v",), steps=(("c", "start", 1, 5, 0),), bounds=(("v", "c", 2), ("c", "v", 1)))
 EXACT = Plan(10, events=("v",), steps=(("c", "start", 1, 5, 0),), bounds=(("v", "c", 1), ("c", "v", -1)))
+
+# The policy of the document's example, which is safe for NEAR.
+EARLY = {(1, (("c", 1),)): ("v",), (2, (("c", 2),)): ("v",), (3, ()): ("v",), (3, (("c", 3),)): ("v",)}
 
 FORTY = 10 ** 40 - 1
 TEN_EVENTS = tuple("abcdefghij")
@@ -34,6 +41,9 @@ ODD = (
     NEAR, (NEAR,), closed_arcs((("a", "b", 1),)), numbers_paper((("a", "a", -1),)), numbers_paper(()),
     all_durations(NEAR), earliest(NEAR, {"c": 3}), play(NEAR, {"c": 3}), timetable_paper(NEAR, {"c": 3}),
     Run(NEAR), Run(NEAR).wait().hear("c"), (Run(NEAR),), Run(NEAR).expected(),
+    played(NEAR, EARLY, {"c": 5}), reached_pairs(NEAR, EARLY), trimmed(NEAR, EARLY), given_facts(NEAR),
+    derived(NEAR, "late", (("plain", "v", "c"), 2)), derived_table(NEAR), open_rule(NEAR, *derived_table(NEAR)),
+    refutation(EXACT), refutation(EXACT)[1:],
 )
 
 

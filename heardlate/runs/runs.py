@@ -1,7 +1,7 @@
 """Runs: what has happened in a plan up to a moment, and what can still happen."""
 
 from heardlate.base.integers import is_between
-from heardlate.errors import InvalidNumber, InvalidOperation, UnknownName
+from heardlate.errors import InvalidNumber, InvalidOperation, InvalidRun, UnknownName
 from heardlate.plans.durations import check_durations
 from heardlate.plans.plans import Plan, check_plan, least_bounds
 from heardlate.plans.times import times_of
@@ -171,3 +171,9 @@ def _check_known(names, values):
 
 def _has_twice(names):
     return len(set(names)) < len(names)
+
+
+def check_run(run):
+    """Raises an error if this is not a run."""
+    if not isinstance(run, Run):
+        raise InvalidRun("this is not a run")
