@@ -11,7 +11,7 @@ from heardlate.facts.tables import derived_table
 from heardlate.plans.plans import Plan
 from tests import rule_answers, time_answers
 from tests.game_answers import Game
-from tests.samples import EXACT, FIVE_STEPS, FORTY, NEAR, ODD, TEN_EVENTS, Case
+from tests.samples import EXACT, FIVE_STEPS, FORTY, NEAR, ODD, RARE, TEN_EVENTS, Case
 
 ROWS = (
     (("plain", "c", "v"), -1, "given", ()),
@@ -122,6 +122,9 @@ class Checked(Case):
                 if rule != ROWS[index][2]:
                     row = (*ROWS[index][:2], rule, ROWS[index][3])
                     self.wrong(ROWS[:index] + (row,) + ROWS[index + 1:], (1, 3))
+            if rule != "release":
+                self.wrong(ROWS + ((("plain", "v", "start"), -1, rule, (3,)),), (1, 4))
+        self.right(("refuted", ROWS + ((("plain", "v", "start"), -1, "release", (3,)),), (1, 4)))
 
     def test_sources(self):
         for sources in (
@@ -134,6 +137,7 @@ class Checked(Case):
         # The first row may not be named by True, nor the row before by a negative index.
         self.wrong((ROWS[2], ROWS[0], (("plain", "start", "v"), 0, "early", (True,)), ROWS[3]), (2, 3))
         self.wrong((*ROWS[:3], (*ROWS[3][:3], (-1,))), (1, 3))
+        self.wrong(((*ROWS[1][:3], (-1,)), ROWS[2], (*ROWS[3][:3], (1,)), ROWS[0]), (0, 2))
         chained = LOOP_ROWS + ((("plain", "v", "v"), -1, "chain", (1, 0)),)
         self.wrong(chained, (2,), LOOP)
         self.wrong(LOOP_ROWS + ((("plain", "v", "v"), -1, "chain", (0, True)),), (2,), LOOP)
@@ -272,6 +276,16 @@ class Found(Case):
                 self.assertIs(is_refutation(plan, value), True)
                 self.assertEqual(used_rows(plan, value), tuple(range(len(value[1]))))
         self.assertGreater(min(kinds.values()), 150)
+
+    def test_early_with_late_facts(self):
+        for plan in RARE:
+            value = refutation(plan)
+            self.assertEqual(value is None, Game(plan).is_driven())
+            if value is not None:
+                self.assertIs(rule_answers.is_refutation(plan, value), True)
+                self.assertIs(is_refutation(plan, value), True)
+        rules = [(row[0][0], row[2]) for plan in RARE[-3:] for row in refutation(plan)[1]]
+        self.assertIn(("late", "early"), rules)
 
     def test_rings_with_late_rows(self):
         late = 0

@@ -14,7 +14,7 @@ from heardlate.facts.tables import (
 from heardlate.plans.plans import Plan
 from tests import rule_answers, time_answers
 from tests.game_answers import Game
-from tests.samples import EXACT, FIVE_STEPS, FORTY, NEAR, ODD, TEN_EVENTS, Case
+from tests.samples import EXACT, FIVE_STEPS, FORTY, NEAR, ODD, RARE, TEN_EVENTS, Case
 
 PLAIN = {
     ("c", "c"): 0, ("c", "start"): -1, ("c", "v"): 1, ("start", "c"): 5, ("start", "start"): 0, ("start", "v"): 6,
@@ -373,6 +373,19 @@ class DerivedTable(Case):
             parts = [chance.sample(part, len(part)) for part in (plan.events, plan.steps, plan.bounds)]
             again = Plan(plan.horizon, events=tuple(parts[0]), steps=tuple(parts[1]), bounds=tuple(parts[2]))
             self.assertEqual(derived_table(again), expected)
+
+    def test_early_with_late_facts(self):
+        found = [derived_table(plan) for plan in RARE]
+        self.assertEqual([table is not None for table in found], [Game(plan).is_driven() for plan in RARE])
+        self.assertEqual([table is not None for table in found], [True] * 8 + [False] * 3)
+        for plan, table in zip(RARE, found):
+            for seed in range(3):
+                values = rule_answers.closure(plan, seed)
+                self.assertEqual(table, None if values is None else rule_answers.table_of(values))
+            if table is not None:
+                self.assertIs(is_closed(plan, *table), True)
+                for pair in table[1]:
+                    self.assertIs(is_closed(plan, table[0], changed(table[1], pair, table[1][pair] + 1)), False)
 
     def test_names_do_not_matter(self):
         for plan, plain, late in driven_plans(80, 90, steps=3):

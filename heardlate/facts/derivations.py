@@ -77,15 +77,12 @@ class Derivation:
                 return
 
     def _chain_through(self, first, middle):
-        """Uses the rule chain for two points and all others; returns those for which a number has sunk."""
+        """Uses the rule chain for two points and all others."""
         numbers, more = self._plain[first], self._plain[middle]
         value, source = numbers[middle], self._plain_rows[first][middle]
-        touched = []
         for last in range(len(self._points)):
             if more[last] is not None and (numbers[last] is None or value + more[last] < numbers[last]):
                 self._put_plain(first, last, value + more[last], "chain", (source, self._plain_rows[middle][last]))
-                touched.append(last)
-        return touched
 
     def _reach_ends(self):
         """Uses the rules late and through until nothing changes."""
@@ -137,9 +134,10 @@ class Derivation:
                 self._put_plain(before, second, numbers[first] + value, "chain", sources)
                 touched.append(before)
         for before in touched:
-            for last in [second] + self._chain_through(before, second):
-                for column in range(len(self._steps)):
-                    self._go_through(before, last, column)
+            self._chain_through(before, second)
+            # The late numbers of the second point have taken in those of all points behind it.
+            for column in range(len(self._steps)):
+                self._go_through(before, second, column)
 
     def _lower_late(self, first, column, value, source):
         """Puts in a smaller late number by the rule early, and what follows from it by through."""

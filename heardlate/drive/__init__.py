@@ -1,0 +1,1 @@
+"""Drivers, opponents and moves."""
