@@ -172,7 +172,7 @@ class PolicyDriver(Driver):
 
 def drive(driver, durations):
     """The events that the driver does with these durations, by ticks, and the run behind the horizon."""
-    _check_begun(driver)
+    check_begun(driver)
     check_durations(driver.plan, durations)
     player = driver.twin()
     for _ in range(driver.plan.horizon + 1):
@@ -182,7 +182,7 @@ def drive(driver, durations):
 
 def policy_of(driver):
     """The policy that does the same as the driver, with just the pairs in which it does something."""
-    _check_begun(driver)
+    check_begun(driver)
     if count_durations(driver.plan) > MAX_CHOICES:
         raise TooMany(MAX_CHOICES)
     policy = {}
@@ -203,6 +203,7 @@ def policy_of(driver):
     return {pair: policy[pair] for pair in sorted(policy)}
 
 
-def _check_begun(driver):
+def check_begun(driver):
+    """Raises an error if this is not a driver at tick 0."""
     if not isinstance(driver, Driver) or driver.tick != 0:
         raise InvalidOperation("this is not a driver at tick 0")

@@ -1,0 +1,1 @@
+"""Parts: plans in the place of steps of other plans."""
