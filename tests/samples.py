@@ -10,11 +10,19 @@ from heardlate.facts.decided import paper_of
 from heardlate.facts.facts import derived, given_facts
 from heardlate.facts.refutations import refutation
 from heardlate.facts.tables import derived_table, open_rule
+from heardlate.house.house import House
+from heardlate.margins.hearing import hearing_paper
+from heardlate.margins.idle import core
+from heardlate.margins.margins import margin_paper
+from heardlate.parts.parts import NestedDriver, spanned
 from heardlate.plans.durations import all_durations
 from heardlate.plans.plans import Plan
 from heardlate.plans.timetables import earliest, play, timetable_paper
 from heardlate.runs.policies import played, reached_pairs, trimmed
 from heardlate.runs.runs import Run
+from heardlate.tasks.tasks import Task
+from heardlate.text.formats import format_plan, format_run
+from heardlate.text.shell import Shell
 
 NEAR = Plan(10, events=("v",), steps=(("c", "start", 1, 5, 0),), bounds=(("v", "c", 2), ("c", "v", 1)))
 EXACT = Plan(10, events=("v",), steps=(("c", "start", 1, 5, 0),), bounds=(("v", "c", 1), ("c", "v", -1)))
@@ -49,6 +57,12 @@ RARE = (
     Plan(3, events=("z",), steps=(("a", "start", 2, 4, 1), ("q", "z", 1, 5, 1)), bounds=(("a", "q", 1),)),
 )
 
+# A driver of a nested plan that has nothing in common with the other plans here, and a house with one.
+TWIN = Plan(3, events=("zy",), bounds=(("start", "zy", 5), ("zy", "start", -1)))
+NESTED = NestedDriver(EagerDriver(OTHER), "c", EagerDriver(spanned(OTHER, "c", TWIN, "zy")), "zy")
+HOUSE = House()
+HOUSE.apply(("plan", "zz", OTHER), ("run", "zx", "zz"))
+
 FORTY = 10 ** 40 - 1
 TEN_EVENTS = tuple("abcdefghij")
 FIVE_STEPS = tuple((end, "start", 1, 2, 0) for end in "pqrst")
@@ -78,6 +92,8 @@ ODD = (
     TableDriver(OTHER, paper_of(OTHER)), PolicyDriver(OTHER, {}), drive(EagerDriver(OTHER), {"c": 3}),
     policy_of(EagerDriver(OTHER)), Opponent(EXACT), Opponent(EXACT)(), duel(PolicyDriver(EXACT, {}), Opponent(EXACT)),
     Opponent(EXACT).verdict, verdicts(Run(OTHER)), move_paper(Run(OTHER), "x"), [stand(Run(OTHER))],
+    margin_paper(OTHER, ("delay", "c")), hearing_paper(OTHER), (core(EXACT),), NESTED, Task.read("zz 1..2? 0; zy 0..3"), HOUSE,
+    HOUSE.log(), HOUSE.plans, HOUSE.runs, Shell(), format_plan(OTHER) + "\n", format_run(Run(OTHER)) + " ",
 )
 
 

@@ -178,6 +178,76 @@ class Language(unittest.TestCase):
         for place, node in nodes(ast.ExceptHandler):
             self.assertIsNotNone(node.type, place)
 
+    def test_attributes_methods_and_properties_have_different_names(self):
+        attributes, methods, properties = set(), set(), set()
+        for _, node in nodes(ast.ClassDef):
+            for part in node.body:
+                if isinstance(part, ast.FunctionDef) and not part.name.startswith("__"):
+                    words = [getattr(decorator, "id", getattr(decorator, "attr", "")) for decorator in part.decorator_list]
+                    (properties if "property" in words or "setter" in words else methods).add(part.name)
+        for _, node in nodes(ast.Attribute):
+            if isinstance(node.ctx, ast.Store):
+                attributes.add(node.attr)
+        self.assertGreater(min(len(attributes), len(methods), len(properties)), 10)
+        self.assertEqual(attributes & methods, set())
+        self.assertEqual(attributes & properties, set())
+        self.assertEqual(methods & properties, set())
+
+    def test_local_names_are_not_those_of_imports_and_classes(self):
+        for path, tree in trees():
+            taken = {alias.name for node in ast.walk(tree) if isinstance(node, ast.ImportFrom) for alias in node.names}
+            taken |= {node.name for node in ast.walk(tree) if isinstance(node, ast.ClassDef)}
+            for node in ast.walk(tree):
+                if isinstance(node, ast.arg):
+                    self.assertNotIn(node.arg, taken, f"{path}:{node.lineno}")
+                if isinstance(node, ast.Name) and isinstance(node.ctx, ast.Store):
+                    self.assertNotIn(node.id, taken, f"{path}:{node.lineno}")
+
+    def test_generators_have_names_of_their_own(self):
+        yielding, others = [], []
+        for _, node in nodes(ast.FunctionDef):
+            is_generator = any(isinstance(part, (ast.Yield, ast.YieldFrom)) for part in ast.walk(node))
+            (yielding if is_generator else others).append(node.name)
+        self.assertEqual(sorted(set(yielding) & set(others)), [])
+        for place, node in nodes(ast.Name, ast.arg):
+            self.assertNotIn(getattr(node, "arg", None) or getattr(node, "id", None) if not is_read(node) else "", yielding, place)
+
+    def test_double_underscore_methods(self):
+        for place, node in nodes(ast.FunctionDef):
+            returned = [part.value for part in ast.walk(node) if isinstance(part, ast.Return)]
+            if node.name == "__len__":
+                for value in returned:
+                    self.assertEqual(getattr(getattr(value, "func", None), "id", ""), "len", place)
+            if node.name == "__str__":
+                for value in returned:
+                    self.assertTrue(isinstance(value, ast.JoinedStr) or getattr(value.func, "id", "") == "str", place)
+            if node.name == "__eq__":
+                self.assertIn("isinstance", ast.unparse(node.body[0]), place)
+            if node.name == "__exit__":
+                for part in node.body:
+                    self.assertTrue(isinstance(part, ast.Assign) and isinstance(part.value, ast.Attribute), place)
+            if node.name == "__getitem__":
+                classes = [part for _, part in nodes(ast.ClassDef) if node.lineno in [row.lineno for row in part.body]]
+                self.assertTrue(any("__iter__" in [getattr(row, "name", "") for row in part.body] for part in classes), place)
+
+    def test_what_is_raised_is_created_on_the_spot(self):
+        for place, node in nodes(ast.Raise):
+            self.assertTrue(isinstance(node.exc, ast.Call) and isinstance(node.exc.func, ast.Name), place)
+        for place, node in nodes(ast.Compare):
+            for sign, side in zip(node.ops, node.comparators):
+                if isinstance(sign, (ast.Is, ast.IsNot)):
+                    self.assertIn(getattr(side, "value", 0), (None, True, False), place)
+
+    def test_strings(self):
+        for place, node in nodes(ast.Constant):
+            if isinstance(node.value, str):
+                self.assertNotIn("%", node.value, place)
+                self.assertNotIn("__", node.value, place)
+
+
+def is_read(node):
+    return isinstance(node, ast.Name) and isinstance(node.ctx, ast.Load)
+
 
 if __name__ == "__main__":
     unittest.main()

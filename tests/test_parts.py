@@ -351,6 +351,17 @@ class Drivers(Case):
         told = [driver(ends) for ends in ((), ("d",), ("p",), (), ("q",))]
         self.assertEqual(told, [(), ("a",), ("m",), (), ("c", "v")])
 
+    def test_ascending_events(self):
+        inner = Plan(3, events=("k", "z"), bounds=(("z", "start", -1),))
+        for names in (("a", "x"), ("a", "b"), ("x", "y")):
+            outer = Plan(9, events=names, steps=(("c", "start", 1, 5, 0),), bounds=(("start", names[1], 0),))
+            driver = nested_driver(outer, "c", inner, "z")
+            self.assertEqual(driver(), tuple(sorted(("k",) + names)))
+            self.assertEqual(driver(), ("c",))
+        # The same if the inner driver begins in the tick in which the outer one does the begin.
+        outer = Plan(9, events=("a", "x"), steps=(("c", "x", 1, 5, 0),))
+        self.assertEqual(nested_driver(outer, "c", inner, "z")(), ("a", "k", "x"))
+
     def test_a_step_that_is_never_heard(self):
         outer = OUTER.with_delay("c", None).with_bound("c", "v", 9)
         for inner, last in ((INNER, "z"), (ENDED.deaf(), "q"), (ENDED, "q")):

@@ -29,6 +29,11 @@ def are_bounds(value, points):
     return len({bound[:2] for bound in value}) == len(value)
 
 
+def is_delay(value):
+    """Whether the value is a delay: an integer from 0 to 99, or None."""
+    return value is None or is_between(value, 0, MAX_DELAY)
+
+
 def _is_step(value, events):
     if not isinstance(value, tuple) or len(value) != 5:
         return False
@@ -37,11 +42,7 @@ def _is_step(value, events):
         return False
     if begin != "start" and begin not in events:
         return False
-    return is_between(most, 1, MAX_DURATION) and is_between(least, 1, most) and _is_delay(delay)
-
-
-def _is_delay(value):
-    return value is None or is_between(value, 0, MAX_DELAY)
+    return is_between(most, 1, MAX_DURATION) and is_between(least, 1, most) and is_delay(delay)
 
 
 def _is_bound(value, points):

@@ -1,7 +1,5 @@
 """News: which ends can be heard, or were heard, in a run."""
 
-from itertools import combinations
-
 from heardlate.runs.runs import Run
 
 
@@ -45,8 +43,7 @@ def moments_of(run):
 
 def subsets(names):
     """All ascending tuples of ascending names, by size and then ascending."""
-    found = []
-    for many in range(len(names) + 1):
-        for chosen in combinations(names, many):
-            found.append(chosen)
-    return found
+    found = [()]
+    for name in names:
+        found = found + [chosen + (name,) for chosen in found]
+    return sorted(sorted(found), key=len)

@@ -58,8 +58,8 @@ class Run:
 
     def expected(self):
         """For the ends whose news can still come, as far as steps have begun, the first and the last tick of it."""
-        news = {step[0]: self._news(step) for step in self._plan.steps}
-        return {end: news[end] for end in news if news[end] is not None}
+        spans = {step[0]: self._news(step) for step in self._plan.steps}
+        return {end: spans[end] for end in spans if spans[end] is not None}
 
     def hear(self, *ends):
         """The run behind the news of the present tick, which are those of just these ends."""
@@ -133,10 +133,10 @@ class Run:
         if end in self._times:
             duration = self._times[end] - self._times[begin]
             return end, begin, duration, duration, delay
-        news = self._news(step)
-        if news is None:
+        span = self._news(step)
+        if span is None:
             return step
-        return end, begin, news[0] - delay - self._times[begin], most, delay
+        return end, begin, span[0] - delay - self._times[begin], most, delay
 
     def _bounds_left(self):
         """The bounds of the plan and those that say when events were done, or that they are not done yet."""

@@ -1,0 +1,1 @@
+"""Houses of plans and runs that are edited together."""

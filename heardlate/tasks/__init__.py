@@ -1,0 +1,1 @@
+"""Tasks: work in rows and beside one another, which is compiled to plans."""

@@ -1,0 +1,1 @@
+"""Texts of plans, runs, papers and policies, and a shell."""
